@@ -1,0 +1,1 @@
+"""Packshelf: boxes on shelves, each at the first place that fits."""
