@@ -1,22 +1,29 @@
 """Places `(shelf, up, left, turned)`: their one order, and the first one that fits."""
 
-from packshelf.shapes import inside, overlap
+from packshelf.shapes import inside
 
 
 def comes_ahead(shelves, one, other):
     """Whether the place one comes ahead of the place other."""
     if one[0] != other[0]:
         return one[0] < other[0]
-    habit = shelves[one[0]][2]
-    return _rank(habit, one) < _rank(habit, other)
+    return rank(shelves, one) < rank(shelves, other)
 
 
-def _rank(habit, place):
-    """What puts the places of one shelf in order: the lesser rank comes ahead."""
+def rank(shelves, place):
+    """What puts places in order: the lesser rank comes ahead."""
+    number, up, left, turned = place
+    if shelves[number][2] == "low":
+        return (number, up, left, turned)
+    return (number, left, up, turned)
+
+
+def outline_at(width, height, place):
+    """The outline of a box of that width and height that stands at the place."""
     _, up, left, turned = place
-    if habit == "low":
-        return (up, left, turned)
-    return (left, up, turned)
+    if turned:
+        return (left, up, height, width)
+    return (left, up, width, height)
 
 
 def first_spot(outlines, shelf, wide, high):
@@ -40,29 +47,36 @@ def _swapped(outline):
 
 def _lowest_spot(outlines, width, height, wide, high):
     """The pair `(up, left)` of the least up, then the least left, at which such an outline fits, or None."""
-    by_left = sorted(outlines)
-    for up in _ups_to_try(outlines):
+    # What has no column or no row covers nothing, so it stands in nobody's way and nothing stands in its way.
+    by_left = sorted([row for row in outlines if min(wide, high, row[2], row[3]) > 0])
+    for up in _ups_to_try(by_left, height - high):
         left = _least_left(by_left, up, wide, high)
         if inside((left, up, wide, high), width, height):
             return (up, left)
     return None
 
 
-def _ups_to_try(outlines):
-    """All rows that can be the least up of a spot, in order."""
+def _ups_to_try(outlines, last):
+    """All rows, none beyond the last, that can be the least up of a spot, in order; row nought in any case."""
     # Above row nought, a spot that no outline ends right below could be one row lower, so it is not the least.
     ends = sorted({row[1] + row[3] for row in outlines})
-    return [0] + [end for end in ends if end > 0]
+    return [0] + [end for end in ends if 0 < end <= last]
 
 
 def _least_left(by_left, up, wide, high):
     """The least left, from nought, at which such an outline overlaps none, whatever the shelf's width."""
     left = 0
-    # In the order of their lefts, what is behind us can never overlap again: moving on only leads away from it.
-    for row in by_left:
-        if overlap(row, (left, up, wide, high)):
-            left = row[0] + row[2]
+    # In the order of their lefts, what is behind us can never be hit again: moving on only leads away from it.
+    for first, behind in _covered_columns(by_left, up, up + high):
+        if first >= left + wide:
+            break
+        left = max(left, behind)
     return left
+
+
+def _covered_columns(outlines, up, end):
+    """The first column, and the one behind the last, of each outline that covers a row from up to below end."""
+    return [(row[0], row[0] + row[2]) for row in outlines if row[1] < end and up < row[1] + row[3]]
 
 
 def first_place(shelves, rows, width, height, turns):

@@ -66,6 +66,10 @@ class Order(unittest.TestCase):
             for behind, other in enumerate(places):
                 self.assertIs(comes_ahead(shelves, one, other), at < behind, (one, other))
 
+    def test_a_number_that_no_shelf_has(self):
+        self.check_ahead((0, 8, 8, True), (5, 0, 0, False), [(9, 9, "left")])
+        self.check_ahead((-1, 8, 8, True), (0, 0, 0, False), [(9, 9, "left")])
+
     def test_shelves_and_places_are_the_same_behind_the_call(self):
         shelves = [[9, 9, "left"], [9, 9, "low"]]
         kept = copy.deepcopy(shelves)
@@ -291,6 +295,15 @@ class HandedIn(unittest.TestCase):
         self.assertEqual(first_place(shelves, [[(0, 0, 1, 1)]] * 11 + [[]], 1, 1, True), (11, 0, 0, False))
         self.assertIsNone(first_place([(0, 5, "low")], [[]], 1, 1, True))
         self.assertEqual(first_spot([], (3, 3, "low"), 0, 0), (0, 0))
+
+    def test_what_covers_nothing_is_in_nobodys_way(self):
+        draw = seeded(9)
+        for _ in range(400):
+            shelf = drawn_shelf(draw, 6)
+            outlines = [(left, up, max(0, wide - 2), high - 1) for left, up, wide, high in drawn_outlines(draw, 9, 6)]
+            wide, high = draw.choice(((0, 0), (0, 1), (1, 0), (1, 1), (2, 1)))
+            expected = spot_by_trying(outlines, shelf, wide, high)
+            self.assertEqual(first_spot(outlines, shelf, wide, high), expected, (outlines, shelf, wide, high))
 
 
 class GreatShelves(unittest.TestCase):
