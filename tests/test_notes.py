@@ -243,7 +243,8 @@ class Read(unittest.TestCase, Refusals):
 
     def test_no_room(self):
         for row in (
-            "box d 1 1 stays 0 0 0 upright\n", "box d 1 1 stays 2 0 0 upright\n", "box d 1 1 stays 9999999 0 0 upright\n",
+            "box d 1 1 stays 0 0 0 upright\n", "box d 1 1 stays 2 0 0 upright\n",
+            "box d 1 1 stays 9999999 0 0 upright\n",
             "box d 1 1 stays 0 4 0 upright\n", "box d 1 1 stays 0 0 5 upright\n", "box d 1 1 stays 0 3 4 turned\n",
             "box d 1 2 stays 0 3 0 upright\n", "box d 2 1 turns 0 3 0 turned\n", "box d 6 1 turns 0 3 0 upright\n",
         ):
